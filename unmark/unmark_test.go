@@ -1,0 +1,221 @@
+package unmark
+
+import (
+	"errors"
+	"math"
+	"slices"
+	"strings"
+	"testing"
+)
+
+func TestKinds(t *testing.T) {
+	const c0, c1, c2, c3, c4, c5, c6 int = Chars, Start, End, Comment, Doctype, Wrong, Finish
+	if got := []int{c0, c1, c2, c3, c4, c5, c6}; !slices.Equal(got, []int{0, 1, 2, 3, 4, 5, 6}) {
+		t.Errorf("the kinds' numbers: %v", got)
+	}
+}
+
+func TestAtWrapsItsError(t *testing.T) {
+	for _, wrapped := range []error{ErrClosed, ErrLimit, errors.New("")} {
+		var err error = &At{Place: 3, Err: wrapped}
+		var at *At
+		if !errors.Is(err, wrapped) || !errors.As(err, &at) || at.Place != 3 || errors.Unwrap(err) != wrapped || err.Error() == "" {
+			t.Errorf("At does not wrap %v: %v", wrapped, err)
+		}
+	}
+	if errors.Is(&At{Err: ErrClosed}, ErrLimit) || errors.Is(ErrClosed, ErrLimit) {
+		t.Error("ErrClosed is not ErrLimit")
+	}
+}
+
+func TestAtWithoutError(t *testing.T) {
+	var none *At
+	for _, a := range []*At{{}, {Place: math.MinInt}, none} {
+		if a.Error() == "" || a.Unwrap() != nil {
+			t.Errorf("%#v: %q, %v", a, a.Error(), a.Unwrap())
+		}
+	}
+}
+
+// checkClosed: Write and Close tell ErrClosed and the number of bytes, and do nothing else.
+func checkClosed(t *testing.T, x *Tokenizer, bytes int) {
+	t.Helper()
+	for _, err := range []error{x.Write("<a>"), x.Close(), x.Write(""), x.Close()} {
+		var at *At
+		if !errors.Is(err, ErrClosed) || errors.Is(err, ErrLimit) || !errors.As(err, &at) || at.Place != bytes || err.Error() == "" {
+			t.Errorf("P3: closed behind %d bytes: %v", bytes, err)
+		}
+	}
+	if tokens := x.Take(); len(tokens) != 0 || x.Held() != 0 {
+		t.Errorf("P3: closed, but told %s, held %d", spell(tokens), x.Held())
+	}
+}
+
+func TestClosed(t *testing.T) {
+	for _, text := range []string{"", "a", "\u00e9\r\n\xff", "<a", "<a b='", "\xe4\xb8", "x<"} {
+		x := New(100)
+		if err := x.Write(text); err != nil {
+			t.Errorf("P3: Write(%q): %v", text, err)
+		}
+		if err := x.Close(); err != nil {
+			t.Errorf("P3: Close behind %q: %v", text, err)
+		}
+		x.Take()
+		checkClosed(t, x, len(text))
+	}
+}
+
+// Tokens that were told stay to be taken when a call is refused.
+func TestTakeBehindRefusal(t *testing.T) {
+	x := New(100)
+	x.Write("a<b>c")
+	x.Close()
+	x.Write("d")
+	x.Close()
+	if got := spell(x.Take()); got != `"a" <b[] "c" .` {
+		t.Errorf("P4: %s", got)
+	}
+	checkClosed(t, x, 5)
+}
+
+func TestNilAndZeroTokenizers(t *testing.T) {
+	checkClosed(t, nil, 0)
+	var zero Tokenizer
+	if zero.Held() != 0 || len(zero.Take()) != 0 {
+		t.Error("a zero Tokenizer has told something")
+	}
+	if err := zero.Close(); err != nil || spell(zero.Take()) != "." {
+		t.Errorf("a zero Tokenizer: %v", err)
+	}
+}
+
+func TestNewTokenizerIsEmpty(t *testing.T) {
+	for _, limit := range []int{math.MinInt, -1, 0, 1, math.MaxInt} {
+		x := New(limit)
+		if x.Held() != 0 || len(x.Take()) != 0 {
+			t.Errorf("P3: New(%d) has told something", limit)
+		}
+		if err := x.Write(""); err != nil {
+			t.Errorf("P3: New(%d), Write of nothing: %v", limit, err)
+		}
+		if err := x.Close(); err != nil || spell(x.Take()) != "." {
+			t.Errorf("P3: New(%d), Close: %v", limit, err)
+		}
+		checkClosed(t, x, 0)
+	}
+}
+
+// A Wrong is told at once; text waits for the next token of another kind.
+func TestTakeAndHeld(t *testing.T) {
+	type step struct {
+		chunk, told string
+		held        int
+	}
+	for _, steps := range [][]step{
+		{{"a<", "", 1}},
+		{{"ab", "", 2}, {"\x00", "nul@2", 3}, {"<", "", 3}, {"/", "", 3}, {">", "no-name@5", 3}, {"c", "", 4}, {"<d", "", 4}, {">", `"ab\x00c" <d[]`, 0}},
+		{{"x<a ", "", 1}, {"=", "equals@4", 1}, {"'\"", "sign@5 sign@6", 1}, {">", `"x" <a["='\"" ""]`, 0}},
+		{{"<a b b", "", 0}, {" ", "twice@6", 0}, {"=", "", 0}, {">", `no-value@8 <a["b" ""]`, 0}},
+		{{"<", "", 0}, {" ", "first@1", 2}, {"<", "", 2}, {"<", "first@3", 3}, {"", "", 3}},
+		{{"x</a b", "", 1}, {"/", "", 1}, {">", `end-attributes@7 end-slash@7 "x" </a`, 0}, {"y", "", 1}},
+		{{"\u4e16\xe4", "", 1}, {"\xb8", "", 1}, {"\x96", "", 2}, {"\xf0\x9f", "", 2}, {"<", "", 3}},
+		{{"a\r", "", 2}, {"\n", "", 2}, {"\x00", "nul@2", 3}},
+		{{"a<b c=\"d>", "", 1}, {"\"", "", 1}, {"e", "no-blank@10", 1}, {"/", "", 1}, {"/", "slash@12", 1}, {">", `"a" <b["c" "d>" "e" ""]*`, 0}},
+	} {
+		x := New(100)
+		for i, s := range steps {
+			if err := x.Write(s.chunk); err != nil {
+				t.Errorf("P3: Write(%q): %v", s.chunk, err)
+			}
+			if x.Held() != s.held {
+				t.Errorf("P4: behind step %d of %+v: %d held, want %d", i, steps, x.Held(), s.held)
+			}
+			if got := spell(x.Take()); got != s.told {
+				t.Errorf("P4: behind step %d of %+v: %s, want %s", i, steps, got, s.told)
+			}
+			if x.Held() != s.held || len(x.Take()) != 0 {
+				t.Errorf("P4: behind step %d of %+v: Take is seen by Held or by Take", i, steps)
+			}
+		}
+	}
+}
+
+func TestTokenizersAreApart(t *testing.T) {
+	left, right := "a<b c='d'>\x00\xc3", "\r<e f f=g/></h i>"
+	x, y := New(100), New(100)
+	for i := range max(len(left), len(right)) {
+		x.Write(left[min(i, len(left)):min(i+1, len(left))])
+		y.Write(right[min(i, len(right)):min(i+1, len(right))])
+	}
+	x.Close()
+	y.Close()
+	if got, want := spell(x.Take()), spell(inPieces(t, left)); got != want {
+		t.Errorf("P2: %s, want %s", got, want)
+	}
+	if got, want := spell(y.Take()), spell(inPieces(t, right)); got != want {
+		t.Errorf("P2: %s, want %s", got, want)
+	}
+}
+
+func TestListsAreTheCallersOwn(t *testing.T) {
+	x := New(100)
+	x.Write("a<b c=d><e f=g>")
+	first := x.Take()
+	want := spell(first)
+	x.Write("h<i j=k><l m=n>")
+	if got := spell(first); got != want {
+		t.Errorf("P2: a later Write has changed %s to %s", want, got)
+	}
+	first[1].Attrs[0] = "changed"
+	first[1].Attrs = append(first[1].Attrs[:1], "changed", "changed")
+	first = append(first[:2], Token{Kind: End, Name: "changed"})
+	if got := spell(first[2:3]); got != "</changed" {
+		t.Errorf("P2: %s", got)
+	}
+	if got := spell(x.Take()); got != `"h" <i["j" "k"] <l["m" "n"]` {
+		t.Errorf("P2: what was done to an earlier list has changed %s", got)
+	}
+}
+
+// No text of these signs makes a call panic, or depends on how it is cut; and
+// the tokens behind each Write are a beginning of all.
+func TestAllShortTexts(t *testing.T) {
+	signs := []string{"<", ">", "/", "a", "=", "\"", "'", " ", "\r", "\n", "\x00", "\xc3", "?", "!"}
+	var try func(text string, signsLeft int)
+	try = func(text string, signsLeft int) {
+		whole := spell(inPieces(t, text))
+		if parts := spell(inPieces(t, eachByte(text)...)); parts != whole {
+			t.Errorf("P7: %q: byte by byte %s, at once %s", text, parts, whole)
+		}
+		open := New(100)
+		open.Write(text)
+		if begun := spell(open.Take()); !strings.HasPrefix(whole, begun) {
+			t.Errorf("P7: %q: %s is not the beginning of %s", text, begun, whole)
+		}
+		if signsLeft == 0 {
+			return
+		}
+		for _, sign := range signs {
+			try(text+sign, signsLeft-1)
+		}
+	}
+	for _, begin := range []string{"", "<a b", "</a b='c' d="} {
+		try(begin, 4)
+	}
+}
+
+// FuzzCuts may be given texts by go test -fuzz; without, it runs these.
+func FuzzCuts(f *testing.F) {
+	f.Add("<P Class=a b='c'>x < y</p>", 7)
+	f.Add("\xf0\x9f\x98\x80\r\n<a\xe4\xb8 b=\"\r\n\">", 2)
+	f.Add("</a/b c c=`", 9)
+	f.Fuzz(func(t *testing.T, text string, cut int) {
+		cut = max(0, min(cut, len(text)))
+		whole := inPieces(t, text)
+		parts := inPieces(t, text[:cut], text[cut:])
+		if spell(whole) != spell(parts) {
+			t.Errorf("P7: %q, cut at %d: %s, at once %s", text, cut, spell(parts), spell(whole))
+		}
+		checkUnusedFields(t, whole)
+	})
+}
