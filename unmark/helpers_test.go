@@ -10,7 +10,8 @@ import (
 type example struct{ text, want string }
 
 // spell writes tokens so that an example is easy to read: "text", <start[names
-// and values], </end, !"comment", error@place, and . for Finish; * is the Flag.
+// and values], </end, !"comment", !!doctype, error@place, and . for Finish; * is
+// the Flag.
 func spell(tokens []Token) string {
 	var words []string
 	for _, x := range tokens {
@@ -33,12 +34,23 @@ func spellOne(x Token) string {
 		return "</" + x.Name + flag
 	case Comment:
 		return fmt.Sprintf("!%q%s", x.Text, flag)
+	case Doctype:
+		return "!!" + x.Name + flag
 	case Wrong:
 		return fmt.Sprintf("%s@%d%s", x.Name, x.At, flag)
 	case Finish:
 		return "." + flag
 	}
 	return fmt.Sprintf("%+v", x)
+}
+
+// wrongs writes errors as spell does: names and places in turn, with a blank behind each.
+func wrongs(pairs ...any) string {
+	text := ""
+	for i := 0; i < len(pairs); i += 2 {
+		text += fmt.Sprintf("%v@%v ", pairs[i], pairs[i+1])
+	}
+	return text
 }
 
 // inPieces writes the pieces, closes, and tells all tokens. It takes behind
@@ -74,6 +86,32 @@ func check(t *testing.T, examples []example) {
 	}
 }
 
+// step is a piece, the tokens that are told behind it, and how much text is held then.
+type step struct {
+	chunk, told string
+	held        int
+}
+
+// writeSteps writes the pieces and looks behind each of them.
+func writeSteps(t *testing.T, steps []step) {
+	t.Helper()
+	x := New(100)
+	for i, s := range steps {
+		if err := x.Write(s.chunk); err != nil {
+			t.Errorf("P3: Write(%q): %v", s.chunk, err)
+		}
+		if x.Held() != s.held {
+			t.Errorf("P4: behind step %d of %+v: %d held, want %d", i, steps, x.Held(), s.held)
+		}
+		if got := spell(x.Take()); got != s.told {
+			t.Errorf("P4: behind step %d of %+v: %s, want %s", i, steps, got, s.told)
+		}
+		if x.Held() != s.held || len(x.Take()) != 0 {
+			t.Errorf("P4: behind step %d of %+v: Take is seen by Held or by Take", i, steps)
+		}
+	}
+}
+
 // cuts tells the text whole, byte by byte, with an empty piece, and cut in two at each place.
 func cuts(text string) [][]string {
 	list := [][]string{{text}, strings.SplitAfter(text, ""), eachByte(text), {"", text, ""}}
@@ -103,6 +141,8 @@ func checkUnusedFields(t *testing.T, tokens []Token) {
 			used.Name, used.Attrs, used.Flag = "", nil, false
 		case End:
 			used.Name = ""
+		case Doctype:
+			used.Name, used.Flag = "", false
 		case Wrong:
 			used.Name, used.At = "", 0
 		}

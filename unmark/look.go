@@ -9,8 +9,13 @@ const (
 	inData state = iota
 	inTitle
 	inRaw
+
 	inOpen
 	inClose
+	inLess
+	inLessClose
+	inLessName
+
 	inTag
 	inAttr
 	inName
@@ -21,8 +26,21 @@ const (
 	inPlain
 	inValue
 	inSelf
-	inBogus
+
 	inDecl
+	inBogus
+	inBegin
+	inBeginDash
+	inComment
+	inDash
+	inDashes
+	inBang
+
+	inDoctype
+	inKind
+	inKindName
+	inKindEnd
+	inKindRest
 )
 
 // verdict is what a state says of the code point that it has looked at.
@@ -56,36 +74,18 @@ looking:
 // lookOnce shows c to the state that it is in now.
 func (t *Tokenizer) lookOnce(c rune) verdict {
 	switch t.state {
-	case inOpen:
-		return t.lookInOpen(c)
-	case inClose:
-		return t.lookInClose(c)
-	case inTag:
-		return t.lookInTag(c)
-	case inAttr:
-		return t.lookInAttr(c)
-	case inName:
-		return t.lookInName(c)
-	case inAfter:
-		return t.lookInAfter(c)
-	case inEquals:
-		return t.lookInEquals(c)
-	case inDouble:
-		return t.lookInQuotes(c, '"')
-	case inSingle:
-		return t.lookInQuotes(c, '\'')
-	case inPlain:
-		return t.lookInPlain(c)
-	case inValue:
-		return t.lookInValue(c)
-	case inSelf:
-		return t.lookInSelf(c)
-	case inBogus:
-		return t.lookInBogus(c)
-	case inDecl:
-		return t.lookInDecl(c)
+	case inTitle, inRaw:
+		return t.lookInRaw(c)
+	case inOpen, inClose, inLess, inLessClose, inLessName:
+		return t.lookBehindLess(c)
+	case inTag, inAttr, inName, inAfter, inEquals, inDouble, inSingle, inPlain, inValue, inSelf:
+		return t.lookWithinTag(c)
+	case inDecl, inBogus, inBegin, inBeginDash, inComment, inDash, inDashes, inBang:
+		return t.lookWithinComment(c)
+	case inDoctype, inKind, inKindName, inKindEnd, inKindRest:
+		return t.lookWithinDoctype(c)
 	}
-	return t.lookInData(c) // TITLE and RAW, too, till they have lines of their own
+	return t.lookInData(c)
 }
 
 // to goes on in the state s with the next code point.
@@ -102,7 +102,11 @@ func (t *Tokenizer) again(s state) verdict {
 
 // wrong tells an error at the code point that is looked at.
 func (t *Tokenizer) wrong(name string) {
-	t.told = append(t.told, Token{Kind: Wrong, Name: name, At: t.place})
+	t.wrongAt(name, t.place)
+}
+
+func (t *Tokenizer) wrongAt(name string, place int) {
+	t.told = append(t.told, Token{Kind: Wrong, Name: name, At: place})
 }
 
 // tell tells a token of a kind but Wrong, and the text ahead of it, which it ends.
@@ -121,81 +125,4 @@ func (t *Tokenizer) withoutNul(c rune) rune {
 		return utf8.RuneError
 	}
 	return c
-}
-
-func (t *Tokenizer) lookInData(c rune) verdict {
-	switch c {
-	case theEnd:
-		return taken
-	case '<':
-		return t.to(inOpen)
-	case nul:
-		t.wrong("nul")
-	}
-	t.text = utf8.AppendRune(t.text, c)
-	return taken
-}
-
-func (t *Tokenizer) lookInOpen(c rune) verdict {
-	switch {
-	case c == '!':
-		return t.to(inDecl)
-	case c == '/':
-		return t.to(inClose)
-	case isLetter(c):
-		t.tag = tag{kind: Start}
-		return t.again(inTag)
-	case c == '?':
-		t.wrong("question")
-		return t.again(inBogus)
-	case c == theEnd:
-		t.wrong("end-in-tag")
-		t.text = append(t.text, "<"...)
-		return taken
-	}
-	t.wrong("first")
-	t.text = append(t.text, "<"...)
-	return t.again(inData)
-}
-
-func (t *Tokenizer) lookInClose(c rune) verdict {
-	switch {
-	case isLetter(c):
-		t.tag = tag{kind: End}
-		return t.again(inTag)
-	case c == '>':
-		t.wrong("no-name")
-		return t.to(inData)
-	case c == theEnd:
-		t.wrong("end-in-tag")
-		t.text = append(t.text, "</"...)
-		return taken
-	}
-	t.wrong("first")
-	return t.again(inBogus)
-}
-
-// lookInDecl has only the last line of its state yet, so that a comment, a
-// doctype and a CDATA section are read as what they would be without the others.
-func (t *Tokenizer) lookInDecl(_ rune) verdict {
-	t.wrong("declaration")
-	return t.again(inBogus)
-}
-
-func (t *Tokenizer) lookInBogus(c rune) verdict {
-	switch c {
-	case '>':
-		t.tellComment()
-		return t.to(inData)
-	case theEnd:
-		t.tellComment()
-		return taken
-	}
-	t.comment = utf8.AppendRune(t.comment, t.withoutNul(c))
-	return taken
-}
-
-func (t *Tokenizer) tellComment() {
-	t.tell(Token{Kind: Comment, Text: string(t.comment)})
-	t.comment = nil
 }

@@ -6,6 +6,7 @@ import "unicode/utf8"
 type tag struct {
 	kind         int // Start or End
 	name         []byte
+	buffer       []byte // the name as it came, kept in LESSNAME: it may turn out to be text
 	attributes   []attribute
 	names        map[string]struct{} // of the attributes: a look through them all for each would take long
 	closesItself bool
@@ -16,6 +17,31 @@ type attribute struct {
 	name  []byte
 	value []byte
 	twice bool // an earlier one has its name: it is dropped, once it is read
+}
+
+// lookWithinTag shows c to the state of a tag in which it is.
+func (t *Tokenizer) lookWithinTag(c rune) verdict {
+	switch t.state {
+	case inAttr:
+		return t.lookInAttr(c)
+	case inName:
+		return t.lookInName(c)
+	case inAfter:
+		return t.lookInAfter(c)
+	case inEquals:
+		return t.lookInEquals(c)
+	case inDouble:
+		return t.lookInQuotes(c, '"')
+	case inSingle:
+		return t.lookInQuotes(c, '\'')
+	case inPlain:
+		return t.lookInPlain(c)
+	case inValue:
+		return t.lookInValue(c)
+	case inSelf:
+		return t.lookInSelf(c)
+	}
+	return t.lookInTag(c)
 }
 
 func (t *Tokenizer) lookInTag(c rune) verdict {
@@ -52,7 +78,8 @@ func (t *Tokenizer) tellTag() verdict {
 	name := string(whole.name)
 	if whole.kind == Start {
 		t.tell(Token{Kind: Start, Name: name, Attrs: whole.attrs(), Flag: whole.closesItself})
-		return t.to(stateBehind(name))
+		t.lastStart = name
+		return t.leadTo(stateBehind(name))
 	}
 	if len(whole.attributes) > 0 {
 		t.wrong("end-attributes")
@@ -61,7 +88,13 @@ func (t *Tokenizer) tellTag() verdict {
 		t.wrong("end-slash")
 	}
 	t.tell(Token{Kind: End, Name: name})
-	return t.to(inData)
+	return t.leadTo(inData)
+}
+
+// leadTo goes on with the texts that a tag leads to.
+func (t *Tokenizer) leadTo(base state) verdict {
+	t.base = base
+	return t.to(base)
 }
 
 // dropTag drops the tag, which the end has cut off.

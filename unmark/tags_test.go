@@ -2,62 +2,6 @@ package unmark
 
 import "testing"
 
-func TestData(t *testing.T) {
-	check(t, []example{
-		{"a > b", `"a > b" .`},
-		{"a/=\"'`!?-b", "\"a/=\\\"'`!?-b\" ."},
-		{"a\x00b", `nul@1 "a\x00b" .`},
-		{"\x00\x00", `nul@0 nul@1 "\x00\x00" .`},
-		{"a<b>c", `"a" <b[] "c" .`},
-	})
-}
-
-func TestOpen(t *testing.T) {
-	check(t, []example{
-		{"<a>", `<a[] .`},
-		{"<A>", `<a[] .`},
-		{"<z><Z>", `<z[] <z[] .`},
-		{"<@><[><`><{>", "first@1 first@4 first@7 first@10 \"<@><[><`><{>\" ."},
-		{"<", `end-in-tag@1 "<" .`},
-		{"a<", `end-in-tag@2 "a<" .`},
-		{"<<", `first@1 end-in-tag@2 "<<" .`},
-		{"<<a>", `first@1 "<" <a[] .`},
-		{"<>", `first@1 "<>" .`},
-		{"< a>", `first@1 "< a>" .`},
-		{"<1>", `first@1 "<1>" .`},
-		{"<\x00", `first@1 nul@1 "<\x00" .`},
-		{"<\u212a>", "first@1 \"<\u212a>\" ."},
-		{"a<?b>c", `question@2 "a" !"?b" "c" .`},
-		{"<?a><?b>", `question@1 !"?a" question@5 !"?b" .`},
-		{"<?", `question@1 !"?" .`},
-		{"<?\x00", "question@1 nul@2 !\"?\ufffd\" ."},
-	})
-}
-
-// Of declarations only those that are nothing else are built.
-func TestDeclarations(t *testing.T) {
-	check(t, []example{
-		{"a<!b>c", `declaration@3 "a" !"b" "c" .`},
-		{"<!>", `declaration@2 !"" .`},
-		{"<!", `declaration@2 !"" .`},
-		{"<!\x00", "declaration@2 nul@2 !\"\ufffd\" ."},
-	})
-}
-
-func TestClose(t *testing.T) {
-	check(t, []example{
-		{"</a>", `</a .`},
-		{"</Z>", `</z .`},
-		{"x</>y", `no-name@3 "xy" .`},
-		{"</", `end-in-tag@2 "</" .`},
-		{"a</", `end-in-tag@3 "a</" .`},
-		{"a</ b>c", `first@3 "a" !" b" "c" .`},
-		{"</1", `first@2 !"1" .`},
-		{"<//>", `first@2 !"/" .`},
-		{"</\x00>", "first@2 nul@2 !\"\ufffd\" ."},
-	})
-}
-
 func TestTag(t *testing.T) {
 	check(t, []example{
 		{"<aB1-:_>", `<ab1-:_[] .`},

@@ -58,15 +58,19 @@ func (a *At) Unwrap() error {
 
 // Tokenizer takes a text apart.
 type Tokenizer struct {
-	points  points
-	bytes   int // how many have been taken: the place that an ErrClosed has
-	closed  bool
-	state   state
-	place   int // of the code point that is looked at
-	text    []byte
-	tag     tag
-	comment []byte // empty once it is told, so that the next one is new
-	told    []Token
+	points    points
+	bytes     int // how many have been taken: the place that an ErrClosed has
+	closed    bool
+	state     state
+	base      state // the state of texts that the last tag led to
+	place     int   // of the code point that is looked at
+	text      []byte
+	tag       tag
+	lastStart string // the last start tag's name: in TITLE and RAW only its end tag is one
+	declared  string // what has come in DECL, where it waits for more
+	comment   []byte // empty once it is told, as doctype is, so that the next one is new
+	doctype   doctype
+	told      []Token
 }
 
 // New makes a tokenizer (P3). The limit does not bind yet.

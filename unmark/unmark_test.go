@@ -52,7 +52,7 @@ func checkClosed(t *testing.T, x *Tokenizer, bytes int) {
 }
 
 func TestClosed(t *testing.T) {
-	for _, text := range []string{"", "a", "\u00e9\r\n\xff", "<a", "<a b='", "\xe4\xb8", "x<"} {
+	for _, text := range []string{"", "a", "\u00e9\r\n\xff", "<a", "<a b='", "\xe4\xb8", "x<", "x<!", "<!-", "<!--a--", "<!doctype", "<![CDATA", "<xmp></x"} {
 		x := New(100)
 		if err := x.Write(text); err != nil {
 			t.Errorf("P3: Write(%q): %v", text, err)
@@ -107,10 +107,6 @@ func TestNewTokenizerIsEmpty(t *testing.T) {
 
 // A Wrong is told at once; text waits for the next token of another kind.
 func TestTakeAndHeld(t *testing.T) {
-	type step struct {
-		chunk, told string
-		held        int
-	}
 	for _, steps := range [][]step{
 		{{"a<", "", 1}},
 		{{"ab", "", 2}, {"\x00", "nul@2", 3}, {"<", "", 3}, {"/", "", 3}, {">", "no-name@5", 3}, {"c", "", 4}, {"<d", "", 4}, {">", `"ab\x00c" <d[]`, 0}},
@@ -120,28 +116,36 @@ func TestTakeAndHeld(t *testing.T) {
 		{{"x</a b", "", 1}, {"/", "", 1}, {">", `end-attributes@7 end-slash@7 "x" </a`, 0}, {"y", "", 1}},
 		{{"\u4e16\xe4", "", 1}, {"\xb8", "", 1}, {"\x96", "", 2}, {"\xf0\x9f", "", 2}, {"<", "", 3}},
 		{{"a\r", "", 2}, {"\n", "", 2}, {"\x00", "nul@2", 3}},
+		{{"a<!", "", 1}, {"-", "", 1}, {"-", "", 1}, {"\x00", "nul@5", 1}, {"b--", "", 1}, {"!", "", 1}, {">", "bang@10 \"a\" !\"\ufffdb\"", 0}, {"c", "", 1}},
+		{{"a<!-", "", 1}, {"b", "declaration@3", 1}, {"-", "", 1}, {">", `"a" !"-b-"`, 0}},
+		{{"<!d", "", 0}, {"O", "", 0}, {"ctyp", "", 0}, {"E", "", 0}, {">", "no-name@9 !!*", 0}},
+		{{"<!doctyp", "", 0}, {"\xc3", "", 0}, {"\xa9", "declaration@2", 0}, {">", "!\"doctyp\u00e9\"", 0}},
+		{{"<!doctype", "", 0}, {"a", "no-blank@9", 0}, {" ", "", 0}, {"b", "kind@11", 0}, {"\x00", "nul@12", 0}, {">", "!!a*", 0}},
+		{{"x<![CDATA", "", 1}, {"[", "cdata@3", 1}, {"]]", "", 1}, {">", `"x" !"[CDATA[]]"`, 0}},
+		{{"<![CDAT", "", 0}, {">", `declaration@2 !"[CDAT"`, 0}},
+		{{"<![", "", 0}, {"c", "declaration@2", 0}, {">", `!"[c"`, 0}},
+		{{"x<!-->", `abrupt@5 "x" !""`, 0}, {"y<!---", "", 1}, {">", `abrupt@12 "y" !""`, 0}},
+		{{"<title>a<", "<title[]", 1}, {"b", "", 3}, {"</", "", 3}, {"Ti", "", 3}, {"\x00", "nul@14", 8}, {"</title", "", 8}, {"s", "", 8}, {" ", "", 17}, {"</TITLE", "", 17}, {" ", "", 17}, {"b", "", 17}, {">", "end-attributes@33 \"a<b</Ti\ufffd</titles \" </title", 0}, {"<", "", 0}, {"1", "first@35", 2}},
+		{{"<xmp></", "<xmp[]", 0}, {"x", "", 0}, {"m", "", 0}, {"\xe4", "", 0}, {"\xb8\x96", "", 5}, {"<", "", 5}, {"<", "", 6}, {"/", "", 6}, {"/", "", 9}},
 		{{"a<b c=\"d>", "", 1}, {"\"", "", 1}, {"e", "no-blank@10", 1}, {"/", "", 1}, {"/", "slash@12", 1}, {">", `"a" <b["c" "d>" "e" ""]*`, 0}},
 	} {
-		x := New(100)
-		for i, s := range steps {
-			if err := x.Write(s.chunk); err != nil {
-				t.Errorf("P3: Write(%q): %v", s.chunk, err)
-			}
-			if x.Held() != s.held {
-				t.Errorf("P4: behind step %d of %+v: %d held, want %d", i, steps, x.Held(), s.held)
-			}
-			if got := spell(x.Take()); got != s.told {
-				t.Errorf("P4: behind step %d of %+v: %s, want %s", i, steps, got, s.told)
-			}
-			if x.Held() != s.held || len(x.Take()) != 0 {
-				t.Errorf("P4: behind step %d of %+v: Take is seen by Held or by Take", i, steps)
-			}
-		}
+		writeSteps(t, steps)
 	}
 }
 
+// The examples of DOC.md, as far as they have no reference.
+func TestExamplesOfTheDocument(t *testing.T) {
+	check(t, []example{
+		{"<P Class=a b='c'>x < y</p>", `<p["class" "a" "b" "c"] first@20 "x < y" </p .`},
+		{"<title><b></TITLE >", `<title[] "<b>" </title .`},
+		{"<!doctype HTML><!--a--b-->", `!!html !"a--b" .`},
+		{"<!-->", `abrupt@4 !"" .`},
+		{"a<", `end-in-tag@2 "a<" .`},
+	})
+}
+
 func TestTokenizersAreApart(t *testing.T) {
-	left, right := "a<b c='d'>\x00\xc3", "\r<e f f=g/></h i>"
+	left, right := "a<b c='d'><!doctype e f><xmp></g>\x00\xc3", "\r<e f f=g/></h i><!--i--j--><!doct<title><"
 	x, y := New(100), New(100)
 	for i := range max(len(left), len(right)) {
 		x.Write(left[min(i, len(left)):min(i+1, len(left))])
@@ -180,27 +184,47 @@ func TestListsAreTheCallersOwn(t *testing.T) {
 // No text of these signs makes a call panic, or depends on how it is cut; and
 // the tokens behind each Write are a beginning of all.
 func TestAllShortTexts(t *testing.T) {
-	signs := []string{"<", ">", "/", "a", "=", "\"", "'", " ", "\r", "\n", "\x00", "\xc3", "?", "!"}
-	var try func(text string, signsLeft int)
-	try = func(text string, signsLeft int) {
-		whole := spell(inPieces(t, text))
-		if parts := spell(inPieces(t, eachByte(text)...)); parts != whole {
-			t.Errorf("P7: %q: byte by byte %s, at once %s", text, parts, whole)
-		}
-		open := New(100)
-		open.Write(text)
-		if begun := spell(open.Take()); !strings.HasPrefix(whole, begun) {
-			t.Errorf("P7: %q: %s is not the beginning of %s", text, begun, whole)
-		}
-		if signsLeft == 0 {
-			return
-		}
-		for _, sign := range signs {
-			try(text+sign, signsLeft-1)
-		}
+	for _, c := range []struct {
+		begin string
+		most  int
+		signs string
+	}{
+		{"", 4, "<>/a=\"' \r\n\x00\xc3?!"},
+		{"<a b", 4, "<>/a=\"' \r\n\x00\xc3?!"},
+		{"</a b='c' d=", 4, "<>/a=\"' \r\n\x00\xc3?!"},
+		{"a<!", 5, "-<>!dD[\x00"},
+		{"<!--", 6, "-<>!a\x00"},
+		{"<!doctyp", 5, "eE>-a \x00\r"},
+		{"<![CDATA", 4, "[]>-A\x00"},
+		{"<xmp>", 5, "<>/xX\x00\r!"},
+		{"<title></title", 4, "<>/tT \n='"},
+	} {
+		tryAll(t, c.begin, c.most, []byte(c.signs))
 	}
-	for _, begin := range []string{"", "<a b", "</a b='c' d="} {
-		try(begin, 4)
+}
+
+// tryAll tries the text with up to most of these signs behind it.
+func tryAll(t *testing.T, text string, most int, signs []byte) {
+	t.Helper()
+	tryText(t, text)
+	if most == 0 {
+		return
+	}
+	for _, sign := range signs {
+		tryAll(t, text+string([]byte{sign}), most-1, signs)
+	}
+}
+
+func tryText(t *testing.T, text string) {
+	t.Helper()
+	whole := spell(inPieces(t, text))
+	if parts := spell(inPieces(t, eachByte(text)...)); parts != whole {
+		t.Errorf("P7: %q: byte by byte %s, at once %s", text, parts, whole)
+	}
+	open := New(100)
+	open.Write(text)
+	if begun := spell(open.Take()); !strings.HasPrefix(whole, begun) {
+		t.Errorf("P7: %q: %s is not the beginning of %s", text, begun, whole)
 	}
 }
 
@@ -209,6 +233,8 @@ func FuzzCuts(f *testing.F) {
 	f.Add("<P Class=a b='c'>x < y</p>", 7)
 	f.Add("\xf0\x9f\x98\x80\r\n<a\xe4\xb8 b=\"\r\n\">", 2)
 	f.Add("</a/b c c=`", 9)
+	f.Add("<!--a--!><!doctype b c><![CDATA[d]]><?e>", 5)
+	f.Add("<title>a</titles></Title b><script></script", 12)
 	f.Fuzz(func(t *testing.T, text string, cut int) {
 		cut = max(0, min(cut, len(text)))
 		whole := inPieces(t, text)
