@@ -70,6 +70,8 @@ func (t *Tokenizer) lookInQuotes(c, quote rune) verdict {
 	switch c {
 	case quote:
 		return t.to(inValue)
+	case '&':
+		return t.toReference()
 	case theEnd:
 		return t.dropTag()
 	}
@@ -81,6 +83,8 @@ func (t *Tokenizer) lookInPlain(c rune) verdict {
 	switch {
 	case isBlank(c):
 		return t.to(inAttr)
+	case c == '&':
+		return t.toReference()
 	case c == '>':
 		return t.tellTag()
 	case c == theEnd:

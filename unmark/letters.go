@@ -9,6 +9,10 @@ func isLetter(c rune) bool {
 	return 'a' <= low(c) && low(c) <= 'z'
 }
 
+func isDigit(c rune) bool {
+	return '0' <= c && c <= '9'
+}
+
 func isBlank(c rune) bool {
 	return c == '\t' || c == '\n' || c == '\f' || c == ' '
 }

@@ -41,6 +41,12 @@ const (
 	inKindName
 	inKindEnd
 	inKindRest
+
+	inRef
+	inRefName    // a name, or the beginning of one
+	inRefUnknown // no name
+	inRefHash
+	inRefNumber
 )
 
 // verdict is what a state says of the code point that it has looked at.
@@ -84,6 +90,8 @@ func (t *Tokenizer) lookOnce(c rune) verdict {
 		return t.lookWithinComment(c)
 	case inDoctype, inKind, inKindName, inKindEnd, inKindRest:
 		return t.lookWithinDoctype(c)
+	case inRef, inRefName, inRefUnknown, inRefHash, inRefNumber:
+		return t.lookWithinReference(c)
 	}
 	return t.lookInData(c)
 }

@@ -6,6 +6,8 @@ func (t *Tokenizer) lookInData(c rune) verdict {
 	switch c {
 	case theEnd:
 		return taken
+	case '&':
+		return t.toReference()
 	case '<':
 		return t.to(inOpen)
 	case nul:
@@ -15,12 +17,14 @@ func (t *Tokenizer) lookInData(c rune) verdict {
 	return taken
 }
 
-// lookInRaw is the state TITLE or RAW: they part ways only at references.
+// lookInRaw is the state TITLE or RAW: they part ways only at a `&`.
 func (t *Tokenizer) lookInRaw(c rune) verdict {
-	switch c {
-	case theEnd:
+	switch {
+	case c == theEnd:
 		return taken
-	case '<':
+	case c == '&' && t.state == inTitle:
+		return t.toReference()
+	case c == '<':
 		return t.to(inLess)
 	}
 	t.text = utf8.AppendRune(t.text, t.withoutNul(c))

@@ -70,6 +70,7 @@ type Tokenizer struct {
 	declared  string // what has come in DECL, where it waits for more
 	comment   []byte // empty once it is told, as doctype is, so that the next one is new
 	doctype   doctype
+	reference reference
 	told      []Token
 }
 

@@ -52,7 +52,7 @@ func checkClosed(t *testing.T, x *Tokenizer, bytes int) {
 }
 
 func TestClosed(t *testing.T) {
-	for _, text := range []string{"", "a", "\u00e9\r\n\xff", "<a", "<a b='", "\xe4\xb8", "x<", "x<!", "<!-", "<!--a--", "<!doctype", "<![CDATA", "<xmp></x"} {
+	for _, text := range []string{"", "a", "\u00e9\r\n\xff", "<a", "<a b='", "\xe4\xb8", "x<", "x<!", "<!-", "<!--a--", "<!doctype", "<![CDATA", "<xmp></x", "x&", "&am", "&amp", "&noti", "&#x", "&#65", "<a b=&not"} {
 		x := New(100)
 		if err := x.Write(text); err != nil {
 			t.Errorf("P3: Write(%q): %v", text, err)
@@ -133,19 +133,21 @@ func TestTakeAndHeld(t *testing.T) {
 	}
 }
 
-// The examples of DOC.md, as far as they have no reference.
+// The examples of DOC.md.
 func TestExamplesOfTheDocument(t *testing.T) {
 	check(t, []example{
-		{"<P Class=a b='c'>x < y</p>", `<p["class" "a" "b" "c"] first@20 "x < y" </p .`},
-		{"<title><b></TITLE >", `<title[] "<b>" </title .`},
+		{"<P Class=a b='c'>x &lt y</p>", `<p["class" "a" "b" "c"] semicolon@22 "x < y" </p .`},
+		{"<title><b>&amp;</TITLE >", `<title[] "<b>&" </title .`},
 		{"<!doctype HTML><!--a--b-->", `!!html !"a--b" .`},
 		{"<!-->", `abrupt@4 !"" .`},
 		{"a<", `end-in-tag@2 "a<" .`},
 	})
+	writeSteps(t, []step{{"a<", "", 1}})
+	writeSteps(t, []step{{"&am", "", 0}, {"x", "", 4}})
 }
 
 func TestTokenizersAreApart(t *testing.T) {
-	left, right := "a<b c='d'><!doctype e f><xmp></g>\x00\xc3", "\r<e f f=g/></h i><!--i--j--><!doct<title><"
+	left, right := "a&amp<b c='d&#65'><!doctype e f>&no<xmp></g>&lt;\x00\xc3", "\r&#x4<e f f=g&amp/></h i><!--i--j--><!doct<title>&notin<"
 	x, y := New(100), New(100)
 	for i := range max(len(left), len(right)) {
 		x.Write(left[min(i, len(left)):min(i+1, len(left))])
@@ -198,6 +200,12 @@ func TestAllShortTexts(t *testing.T) {
 		{"<![CDATA", 4, "[]>-A\x00"},
 		{"<xmp>", 5, "<>/xX\x00\r!"},
 		{"<title></title", 4, "<>/tT \n='"},
+		{"a&", 4, "amp;#x1&= <\r\xc3"},
+		{"<a b='&", 4, "lt;#X0&='\x00"},
+		{"<a b=&", 4, "lt;#X0&=> "},
+		{"&no", 5, "tin;=&"},
+		{"<a b=\"&no", 5, "tin;=\""},
+		{"<title>&#", 5, "xXaf0;<&"},
 	} {
 		tryAll(t, c.begin, c.most, []byte(c.signs))
 	}
@@ -235,6 +243,8 @@ func FuzzCuts(f *testing.F) {
 	f.Add("</a/b c c=`", 9)
 	f.Add("<!--a--!><!doctype b c><![CDATA[d]]><?e>", 5)
 	f.Add("<title>a</titles></Title b><script></script", 12)
+	f.Add("&amp;&lt&noti;&notin;&x;<a b='&not=&#65' c=&#x1F600;>", 11)
+	f.Add("&#0&#xFFFF;&#128;&#99999999999999999999;&#;&#x<title>&gt", 20)
 	f.Fuzz(func(t *testing.T, text string, cut int) {
 		cut = max(0, min(cut, len(text)))
 		whole := inPieces(t, text)
