@@ -119,11 +119,17 @@ func (t *Tokenizer) wrongAt(name string, place int) {
 
 // tell tells a token of a kind but Wrong, and the text ahead of it, which it ends.
 func (t *Tokenizer) tell(x Token) {
-	if len(t.text) > 0 {
-		t.told = append(t.told, Token{Kind: Chars, Text: string(t.text)})
-		t.text = nil
-	}
+	t.tellText()
 	t.told = append(t.told, x)
+}
+
+// tellText tells the text that is held, if there is any.
+func (t *Tokenizer) tellText() {
+	if len(t.text) == 0 {
+		return
+	}
+	t.told = append(t.told, Token{Kind: Chars, Text: string(t.text)})
+	t.text = nil
 }
 
 // withoutNul tells c, or, with an error, U+FFFD in place of NUL.

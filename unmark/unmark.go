@@ -59,6 +59,7 @@ func (a *At) Unwrap() error {
 // Tokenizer takes a text apart.
 type Tokenizer struct {
 	points    points
+	limit     int // how many bytes it takes at most
 	bytes     int // how many have been taken: the place that an ErrClosed has
 	closed    bool
 	state     state
@@ -74,16 +75,23 @@ type Tokenizer struct {
 	told      []Token
 }
 
-// New makes a tokenizer (P3). The limit does not bind yet.
-func New(limit int) *Tokenizer { return &Tokenizer{} }
+// New makes a tokenizer that takes at most limit bytes (P3).
+func New(limit int) *Tokenizer {
+	return &Tokenizer{limit: max(limit, 0)}
+}
 
-// Write takes a piece of text in (P3).
+// Write takes a piece of text in, as far as the limit leaves room for it (P3).
 func (t *Tokenizer) Write(chunk string) error {
 	if t.isClosed() {
 		return t.closedError()
 	}
-	t.bytes += len(chunk)
-	t.points.read(chunk, t.lookAtNext)
+	fits := min(len(chunk), t.limit-t.bytes)
+	t.bytes += fits
+	t.points.read(chunk[:fits], t.lookAtNext)
+	if fits < len(chunk) {
+		t.end()
+		return &At{Place: t.limit, Err: ErrLimit}
+	}
 	return nil
 }
 
@@ -92,9 +100,7 @@ func (t *Tokenizer) Close() error {
 	if t.isClosed() {
 		return t.closedError()
 	}
-	t.closed = true
-	t.points.end(t.lookAtNext)
-	t.look(theEnd)
+	t.end()
 	t.tell(Token{Kind: Finish})
 	return nil
 }
@@ -117,11 +123,14 @@ func (t *Tokenizer) Held() int {
 	return utf8.RuneCount(t.text)
 }
 
-// All takes several texts apart (P5). It is not built yet.
-func All(texts []string, limit int) ([][]Token, error) { return nil, nil }
-
-// Escape writes a text so that it is read as it is (P6). It is not built yet.
-func Escape(text string) string { return "" }
+// end closes it and ends what is open. There is no Finish: a text that the
+// limit has cut off has none.
+func (t *Tokenizer) end() {
+	t.closed = true
+	t.points.end(t.lookAtNext)
+	t.look(theEnd)
+	t.tellText()
+}
 
 // isClosed counts a nil tokenizer as closed, so that no call panics on it.
 func (t *Tokenizer) isClosed() bool { return t == nil || t.closed }

@@ -6,6 +6,7 @@ import (
 	"slices"
 	"strings"
 	"testing"
+	"unicode/utf8"
 )
 
 func TestKinds(t *testing.T) {
@@ -41,10 +42,7 @@ func TestAtWithoutError(t *testing.T) {
 func checkClosed(t *testing.T, x *Tokenizer, bytes int) {
 	t.Helper()
 	for _, err := range []error{x.Write("<a>"), x.Close(), x.Write(""), x.Close()} {
-		var at *At
-		if !errors.Is(err, ErrClosed) || errors.Is(err, ErrLimit) || !errors.As(err, &at) || at.Place != bytes || err.Error() == "" {
-			t.Errorf("P3: closed behind %d bytes: %v", bytes, err)
-		}
+		checkAt(t, "P3: a closed tokenizer", err, ErrClosed, bytes)
 	}
 	if tokens := x.Take(); len(tokens) != 0 || x.Held() != 0 {
 		t.Errorf("P3: closed, but told %s, held %d", spell(tokens), x.Held())
@@ -225,14 +223,48 @@ func tryAll(t *testing.T, text string, most int, signs []byte) {
 
 func tryText(t *testing.T, text string) {
 	t.Helper()
-	whole := spell(inPieces(t, text))
+	tokens := inPieces(t, text)
+	whole := spell(tokens)
 	if parts := spell(inPieces(t, eachByte(text)...)); parts != whole {
 		t.Errorf("P7: %q: byte by byte %s, at once %s", text, parts, whole)
 	}
-	open := New(100)
+	open := New(len(text))
 	open.Write(text)
-	if begun := spell(open.Take()); !strings.HasPrefix(whole, begun) {
-		t.Errorf("P7: %q: %s is not the beginning of %s", text, begun, whole)
+	begun := open.Take()
+	if !isBeginning(begun, tokens) {
+		t.Errorf("P7: %q: %s is not the beginning of %s", text, spell(begun), whole)
+	}
+	checkAt(t, "P3: Write beyond the limit", open.Write("x"), ErrLimit, len(text))
+	limited := append(begun, open.Take()...)
+	if got, want := spell(limited), spell(tokens[:len(tokens)-1]); got != want {
+		t.Errorf("P3: %q, ended by the limit: %s, want %s", text, got, want)
+	}
+}
+
+func isBeginning(begun, whole []Token) bool {
+	return len(begun) <= len(whole) && spell(begun) == spell(whole[:len(begun)])
+}
+
+// However a text goes on, what was told stays.
+func TestTokensSoFarAreABeginning(t *testing.T) {
+	goingOn := []string{"", "a", "n", ";", "1", "x41;", ">", "/>", "<", "-", "->", "!>", "=", "\"", "'", " ", "\n", "\r\n", "\x00", "\x80", "\xb8\x96", "[", "</title>", "&lt"}
+	for _, text := range []string{
+		"a&amp<b c='d&#65'><!doctype e f>&no<xmp></xmp>&lt;\x00\xc3\xa9",
+		"\r\n&#x41;<e f f=g&amp/></h i/><!--i--!j--!><title>&notin</titles></title>",
+		"<![CDATA[a]]><!doctyp><!-><?b></?c></><d e=\"&not=\"f>\xe4\xb8\x96\xf0\x9f<!---><!-->",
+	} {
+		for i := range len(text) + 1 {
+			open := New(i)
+			if err := open.Write(text[:i]); err != nil {
+				t.Errorf("P3: Write(%q): %v", text[:i], err)
+			}
+			begun := open.Take()
+			for _, rest := range append(goingOn, text[i:]) {
+				if whole := inPieces(t, text[:i]+rest); !isBeginning(begun, whole) {
+					t.Errorf("P7: behind %q: %s; with %q: %s", text[:i], spell(begun), rest, spell(whole))
+				}
+			}
+		}
 	}
 }
 
@@ -253,5 +285,14 @@ func FuzzCuts(f *testing.F) {
 			t.Errorf("P7: %q, cut at %d: %s, at once %s", text, cut, spell(parts), spell(whole))
 		}
 		checkUnusedFields(t, whole)
+		if cut < len(text) {
+			taken := inPieces(t, text[:cut])
+			if got, want := spell(upToLimit(t, cut, text)), spell(taken[:len(taken)-1]); got != want {
+				t.Errorf("P3: %q up to %d: %s, want %s", text, cut, got, want)
+			}
+		}
+		if utf8.ValidString(text) && !strings.ContainsRune(text, nul) {
+			checkReadAgain(t, text)
+		}
 	})
 }
